@@ -1,0 +1,1 @@
+"""Jawturns: plans that turn a part right without looking at it."""
