@@ -3,6 +3,8 @@
 from jawturns.errors import BadRound, BadRows, BadStanding
 
 WORDS = ("push", "squeeze")
+LETTERS = "abcdefghijklmnopqrstuvwxyz"
+LONGEST_NAME = 12
 LEAST_ROUND = 2
 GREATEST_ROUND = 360
 GREATEST_WIDTH = 10 ** 12
@@ -31,6 +33,17 @@ def is_row_of(x, low, high):
 def is_word(x):
     """Tell whether x is a word."""
     return x in WORDS
+
+
+def is_deed(x):
+    """Tell whether x is a deed or a step: a tuple of a word and an integer."""
+    return isinstance(x, tuple) and len(x) == 2 and is_word(x[0]) and is_whole(x[1])
+
+
+def is_name(x):
+    """Tell whether x is a name."""
+    return (isinstance(x, str) and 1 <= len(x) <= LONGEST_NAME
+            and all([letter in LETTERS for letter in x]))
 
 
 def check_round(around):

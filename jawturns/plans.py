@@ -1,6 +1,6 @@
 """Plans: lists of deeds, and what they leave possible."""
 
-from jawturns.checks import check_round, checked_standings, is_row_of, is_whole, is_word
+from jawturns.checks import check_round, checked_standings, is_deed, is_row_of, is_whole
 from jawturns.errors import BadPlan, BadRound, BadStanding, BadTurn, BadWord
 
 MOST_DEEDS = 400
@@ -14,7 +14,7 @@ class Plan:
         if not is_row_of(deeds, 0, MOST_DEEDS):
             raise BadPlan(-1)
         for at, deed in enumerate(deeds):
-            if not _is_deed(deed):
+            if not is_deed(deed):
                 raise BadPlan(at)
         self.around = around
         self.deeds = tuple([(word, turn % around) for word, turn in deeds])
@@ -53,11 +53,6 @@ class Plan:
         if not is_whole(other):
             raise BadTurn(other)
         return Plan(self.around, [(word, turn + other) for word, turn in self.deeds])
-
-
-def _is_deed(deed):
-    """Tell whether deed is a tuple of a word and an integer."""
-    return isinstance(deed, tuple) and len(deed) == 2 and is_word(deed[0]) and is_whole(deed[1])
 
 
 def check_plan(part, plan):

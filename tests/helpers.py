@@ -46,6 +46,8 @@ NOT_INTEGERS = [None, True, False, 0.0, 1.0, 2.5, float("inf"), float("nan"), 1j
                 [], [1], [[1]], (), (1,), (1, 2), {}, {1: 2}, {(1, (2,)): [None]}] + DEEP
 NOT_WORDS = [None, True, False, 0, 1, HUGE, 2.5, 1j, "", "Push", "push ", "squeezes", "pull",
              [], ["push"], [["squeeze"]], (), ("push",), {}, {"push": "squeeze"}] + DEEP
+NOT_NAMES = [None, True, 0, 2.5, "", "Start", "start ", " start", "a1", "a_b", "a-b", "abcdefghijklm",
+             "start\n", b"start", (), ("start",), DEEP[1]]
 NOT_PAIRS = [None, True, 3, HUGE, 2.5, "", "ab", [], [3, 4], (), (3,), (3, 4, 5), {}, {3: 4},
              ((3, 4),), [(3, 4)], (3, None), (None, 4), (3, 4.0), (3.0, 4), (3, "4"), ("3", 4),
              (3, True), (True, 4), ([3], 4), (3, [4]), ((3,), (4,))] + DEEP
@@ -71,6 +73,13 @@ class Case(unittest.TestCase):
         if plain((given, named)):
             # Unlike ==, a text also tells 1 from True and shows that nan is nan.
             self.assertEqual(repr((given, named)), repr(kept))
+
+    def fails(self, error, call, *given, **named):
+        """The call raises an error that has no attribute."""
+        with self.assertRaises(errors.JawError) as caught:
+            call(*given, **named)
+        self.assertIs(type(caught.exception), error)
+        self.assertEqual(vars(caught.exception), {})
 
     def put_refused(self, error, value, part, word, turning):
         """Setting part[word] = turning is refused, and the part is as before."""

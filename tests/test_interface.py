@@ -5,7 +5,8 @@ import pathlib
 import unittest
 
 import jawturns
-from jawturns import errors, parts, plans, turnings
+from jawturns import (errors, feeder, lots, machines, parts, plans, same, several, shortest, stands, texts,
+                      turnings)
 
 ERRORS = {
     "BadRound": ["value"], "BadRows": ["at"], "BadTurn": ["value"], "BadStanding": ["value"],
@@ -23,19 +24,52 @@ CLASSES = {
     plans.Plan: {
         "__init__": ["around", "deeds"], "__len__": [], "__getitem__": ["at"], "__add__": ["other"],
         "__mul__": ["other"], "__rmul__": ["other"], "__rshift__": ["other"], "__iter__": [], "__eq__": ["other"]},
+    machines.Let: {
+        "__init__": ["around", "rules"], "rules": ["state"], "state_after": ["plan"], "many": ["length"],
+        "__eq__": ["other"]},
+    feeder.Feeder: {
+        "__init__": ["part", "standings"], "__len__": [], "__contains__": ["x"], "__iadd__": ["other"],
+        "squeeze": ["turn"], "push": ["turn"], "is_right": [], "put": ["standings"], "undo": [],
+        "trying": ["deeds"]},
 }
+STATICS = {"steps": ["around", "words", "step", "count"], "fences": ["around", "word", "left", "right"]}
 PROPERTIES = {
     turnings.Turning: ["begins", "period"],
     parts.Part: ["words", "period", "widths"],
+    machines.Let: ["states", "words"],
+    feeder.Feeder: ["standings", "plan"],
 }
 FUNCTIONS = {
-    "carried": ["part", "plan", "x"], "after": ["part", "plan", "standings"], "counts": ["part", "plan"],
-    "does": ["part", "plan"], "ends": ["part", "plan"], "joint": ["part", "plan"],
+    plans: {
+        "carried": "(part, plan, x)", "after": "(part, plan, standings=None)", "counts": "(part, plan)",
+        "does": "(part, plan)", "ends": "(part, plan)", "joint": "(part, plan)"},
+    texts: {
+        "plan_text": "(plan)", "turning_text": "(turning)", "let_text": "(let)", "read_plan": "(text)",
+        "read_turning": "(text)", "read_let": "(text)"},
+    stands: {
+        "first_stands": "(part, let=None)", "moves": "(part, stand, let=None)",
+        "next_stand": "(part, stand, step, let=None)", "stands_after": "(part, plan, let=None)"},
+    shortest: {
+        "least_length": "(part, let=None)", "shortest": "(part, let=None)", "paper": "(part, let=None)",
+        "is_paper": "(part, length, thing, let=None)", "stuck": "(part, let=None)",
+        "is_stuck": "(part, thing, let=None)", "plans": "(part, length, let)"},
+    lots: {
+        "first_rows": "(parts, let)", "next_row": "(parts, row, step, let, *, spread=0)",
+        "all_rows": "(parts, let, *, spread=0)"},
+    several: {
+        "does_for": "(parts, plan, *, apart=False)", "least_for": "(parts, let, *, apart=False)",
+        "shortest_for": "(parts, let, *, apart=False)", "paper_for": "(parts, let, *, apart=False)",
+        "is_paper_for": "(parts, let, length, thing, *, apart=False)",
+        "stuck_for": "(parts, let, *, apart=False)", "is_stuck_for": "(parts, let, thing, *, apart=False)"},
+    same: {
+        "same_plans": "(one, other, let)", "within": "(one, other, let)", "parting": "(one, other, let)",
+        "same_rows": "(one, other, let)", "is_same": "(one, other, let, thing)", "alike": "(one, other)"},
 }
 OBJECTS = [
     (turnings.Turning(12, [(3, 4), (8, 1)]), ["around", "rows"]),
     (parts.Part(push=turnings.Turning(12, [(3, 4), (8, 1)])), ["around"]),
     (plans.Plan(12, []), ["around", "deeds"]),
+    (machines.Let(12, {"start": []}), ["around"]),
 ]
 
 
@@ -55,6 +89,9 @@ class Interface(unittest.TestCase):
                 self.assertEqual(found, ["self"] + names, (made, name))
         self.assertIsInstance(vars(turnings.Turning)["of_widths"], classmethod)
         self.assertEqual(list(inspect.signature(turnings.Turning.of_widths).parameters), ["widths"])
+        for name, names in STATICS.items():
+            self.assertIsInstance(vars(machines.Let)[name], staticmethod)
+            self.assertEqual(list(inspect.signature(vars(machines.Let)[name]).parameters), names)
 
     def test_properties(self):
         for made, names in PROPERTIES.items():
@@ -67,15 +104,18 @@ class Interface(unittest.TestCase):
                 self.assertIn(name, vars(made))
 
     def test_functions(self):
-        for name, names in FUNCTIONS.items():
-            function = vars(plans)[name]
-            self.assertEqual(function.__module__, "jawturns.plans")
-            self.assertEqual(list(inspect.signature(function).parameters), names)
-        self.assertIsNone(inspect.signature(plans.after).parameters["standings"].default)
+        for module, functions in FUNCTIONS.items():
+            for name, told in functions.items():
+                function = vars(module)[name]
+                self.assertTrue(inspect.isfunction(function))
+                self.assertEqual(function.__module__, module.__name__)
+                self.assertEqual(str(inspect.signature(function)), told)
+        self.assertTrue(inspect.isgeneratorfunction(shortest.plans))
 
     def test_defaults_of_a_part(self):
         for parameter in inspect.signature(parts.Part).parameters.values():
             self.assertIsNone(parameter.default)
+        self.assertIsNone(inspect.signature(feeder.Feeder).parameters["standings"].default)
 
 
 class Files(unittest.TestCase):
