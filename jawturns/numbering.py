@@ -15,10 +15,9 @@ class Numbering:
         """Return how many rests of the word lie in a period."""
         return len(self._rests[word])
 
-    def place(self, word, number):
-        """Return the integer at which the rest of this number lies."""
-        laps, at = divmod(number, len(self._rests[word]))
-        return self._rests[word][at] + laps * self.span
+    def place(self, word, at):
+        """Return the place of one of the rests 0 to m - 1 of the word."""
+        return self._rests[word][at]
 
     def number(self, word, x):
         """Return the number of the rest that the word's turning brings the integer x to."""

@@ -22,10 +22,6 @@ class Rows:
         self._spread = spread
         self._kept_lefts = {}
 
-    def empty_does(self):
-        """Tell whether the empty plan does."""
-        return False
-
     def is_end(self, row):
         """Tell whether the row is one that is looked for."""
         return False

@@ -64,8 +64,9 @@ def is_same(one, other, let, thing):
 
 def alike(one, other):
     """Return the least turn that gives one the turnings of other, or None."""
-    if one.around != other.around or one.words != other.words:
+    if one.words != other.words:
         return None
+    # Turnings of unlike rounds are never equal.
     for c in range(one.around):
         if all([one[word].turned(c) == other[word] for word in one.words]):
             return c

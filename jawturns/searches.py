@@ -130,7 +130,12 @@ def is_paper_of(field, length, thing):
     for node, number in thing.items():
         if not field.is_node(node) or field.is_end(node) or not is_whole(number) or number < 0:
             return False
-    return _begins_well(field, length, thing) and all([_goes_on_well(field, node, thing) for node in thing])
+    if not _begins_well(field, length, thing):
+        return False
+    for node in thing:
+        if not _goes_on_well(field, node, thing):
+            return False
+    return True
 
 
 def _begins_well(field, length, paper):

@@ -2,7 +2,7 @@
 
 from math import gcd
 
-from jawturns.plans import check_plan, ends
+from jawturns.plans import ends
 from jawturns.rows import Rows, all_reached, check_kinds, check_lets
 from jawturns.searches import (is_paper_of, is_stuck_of, least_number, paper_of, shortest_of,
                                stuck_of)
@@ -46,8 +46,7 @@ def _are_unlike(standings):
 def does_for(parts, plan, *, apart=False):
     """Tell whether the plan does for the kinds."""
     check_kinds(parts, LEAST_KINDS, MOST_KINDS)
-    for part in parts:
-        check_plan(part, plan)
+    # Each part in turn makes the checks of the plan here, before any of them is judged.
     standings = [(ends(part, plan), part.period) for part in parts]
     if not all([standing is not None for standing, span in standings]):
         return False

@@ -249,7 +249,10 @@ class Machines(TextCase):
         rules = [f"push {turn} start" for turn in range(41)]
         whole = "360: start: " + ", ".join(rules[:40])
         self.assertEqual(len(read_let(whole).rules("start")), 40)
-        self.bad(read_let, 1, whole + ", " + rules[40])
+        self.bad(read_let, 1, whole + ", " + rules[40], whole + ", " + rules[40] + "; a")
+        # It is bad by itself, so that no state "start" is missed yet.
+        self.bad(read_let, 2, whole.replace(": start", ": a:; b") + ", " + rules[40])
+        self.bad(read_let, 0, whole.replace(": start", ": a:; b"))
 
     def test_the_6th_state(self):
         whole = "12: a:; b:; c:; d:; start:"
