@@ -2,7 +2,7 @@
 
 from jawturns.checks import checked_standings, is_whole
 from jawturns.errors import BadPlan, BadStanding, BadTurn, BadWord, NothingDone
-from jawturns.plans import MOST_DEEDS, Plan, after, check_plan
+from jawturns.plans import MOST_DEEDS, Plan, after
 
 
 class Feeder:
@@ -22,9 +22,9 @@ class Feeder:
         return x % self._part.around in self._standings
 
     def __iadd__(self, other):
-        check_plan(self._part, other)
-        # The sum of the plans refuses to have too many deeds.
-        self._step(after(self._part, other, self._standings), self._done + other)
+        # Nothing is changed yet when `after` makes the checks of a plan and the sum refuses too many deeds.
+        standings = after(self._part, other, self._standings)
+        self._step(standings, self._done + other)
         return self
 
     @property
