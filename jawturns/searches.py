@@ -48,7 +48,7 @@ def _ways_to_ends(field, table):
     ways = {node: 0 for node in layer}
     while layer:
         further = []
-        for goal in layer:
+        for goal in list(layer):
             for node in before[goal]:
                 if node not in ways:
                     ways[node] = ways[goal] + 1
