@@ -5,8 +5,8 @@ import pathlib
 import unittest
 
 import jawturns
-from jawturns import (errors, feeder, lots, machines, parts, plans, same, several, shortest, stands, texts,
-                      turnings)
+from jawturns import (directions, errors, feeder, glances, lots, machines, parts, plans, plates, quickest, same,
+                      sectors, several, shortest, slack, stands, swings, telling, texts, turnings)
 
 ERRORS = {
     "BadRound": ["value"], "BadRows": ["at"], "BadTurn": ["value"], "BadStanding": ["value"],
@@ -31,6 +31,10 @@ CLASSES = {
         "__init__": ["part", "standings"], "__len__": [], "__contains__": ["x"], "__iadd__": ["other"],
         "squeeze": ["turn"], "push": ["turn"], "is_right": [], "put": ["standings"], "undo": [],
         "trying": ["deeds"]},
+    slack.Slack: {"__init__": ["rest", "border"], "__eq__": ["other"]},
+    plates.Plate: {
+        "__init__": ["corners", "centre"], "rests": ["word"], "tops": ["word"], "settled": ["standing", "deed"],
+        "width": ["u"], "moved": ["x", "y"], "scaled": ["k"], "quarter": [], "mirrored": [], "__eq__": ["other"]},
 }
 STATICS = {"steps": ["around", "words", "step", "count"], "fences": ["around", "word", "left", "right"]}
 PROPERTIES = {
@@ -38,6 +42,7 @@ PROPERTIES = {
     parts.Part: ["words", "period", "widths"],
     machines.Let: ["states", "words"],
     feeder.Feeder: ["standings", "plan"],
+    plates.Plate: ["words"],
 }
 FUNCTIONS = {
     plans: {
@@ -64,12 +69,37 @@ FUNCTIONS = {
     same: {
         "same_plans": "(one, other, let)", "within": "(one, other, let)", "parting": "(one, other, let)",
         "same_rows": "(one, other, let)", "is_same": "(one, other, let, thing)", "alike": "(one, other)"},
+    slack: {
+        "left_after": "(part, slack, plan)", "sure": "(part, slack, plan, room=0)",
+        "least_sure": "(part, let, slack, room=0)", "shortest_sure": "(part, let, slack, room=0)",
+        "sure_paper": "(part, let, slack, room=0)", "is_sure_paper": "(part, let, slack, room, length, thing)",
+        "never_sure": "(part, let, slack, room=0)", "is_never_sure": "(part, let, slack, room, thing)"},
+    telling: {
+        "shows": "(part, plan, standing)", "fits": "(parts, log)", "where": "(parts, log)",
+        "tell": "(parts, let, *, most=12, settled=False)",
+        "is_tell": "(parts, let, worst, thing, *, settled=False)",
+        "delay": "(parts, let, *, most=12, settled=False)",
+        "is_delay": "(parts, let, length, thing, *, settled=False)"},
+    directions: {
+        "least": "(d)", "times": "(d, e)", "back": "(d)", "opposite": "(d)", "ahead": "(d, e)",
+        "within": "(d, low, high)", "ascending": "(row)"},
+    sectors: {
+        "first_arcs": "(plate)", "arc_behind": "(plate, arc, step)", "sectors": "(plate, arc, word)",
+        "arcs_after": "(plate, plan)"},
+    quickest: {
+        "least_deeds": "(plate)", "quickest": "(plate)", "quick_paper": "(plate)",
+        "is_quick_paper": "(plate, length, thing)", "standings_left": "(plate, plan)",
+        "comes_right": "(plate, plan)", "end_standing": "(plate, plan)"},
+    swings: {"swings": "(plate, plan, at)"},
+    glances: {"shown": "(plate, plan, standing)", "where_now": "(plates, log)", "apart": "(plates, plan)"},
 }
 OBJECTS = [
     (turnings.Turning(12, [(3, 4), (8, 1)]), ["around", "rows"]),
     (parts.Part(push=turnings.Turning(12, [(3, 4), (8, 1)])), ["around"]),
     (plans.Plan(12, []), ["around", "deeds"]),
     (machines.Let(12, {"start": []}), ["around"]),
+    (slack.Slack(1, 2), ["rest", "border"]),
+    (plates.Plate([(0, 0), (4, 0), (1, 2)]), ["corners", "centre", "turnings"]),
 ]
 
 
@@ -116,6 +146,7 @@ class Interface(unittest.TestCase):
         for parameter in inspect.signature(parts.Part).parameters.values():
             self.assertIsNone(parameter.default)
         self.assertIsNone(inspect.signature(feeder.Feeder).parameters["standings"].default)
+        self.assertIsNone(inspect.signature(plates.Plate).parameters["centre"].default)
 
 
 class Files(unittest.TestCase):
