@@ -15,6 +15,10 @@ SQUARE = [(0, 0), (3, 0), (3, 3), (0, 3)]
 # (1450, -1050), which are no tops, only a regular polygon could be so, and that has no whole corners.
 EIGHT = [(1715, -686), (1715, 735), (700, 1750), (-750, 1750), (-1450, 1050),
          (-1715, 686), (-1715, -735), (-700, -1750), (750, -1750), (1450, -1050)]
+# Pushed, it has one rest and one top.
+ONE_REST = [(-9, -3), (-5, -6), (10, -6), (9, 4), (-4, 8)], (-6, 3)
+# To one of its arcs that are not closed, ("squeeze", 1, 2), no steps lead.
+SHORT_OF_ONE = [(-3, -1), (-1, -2), (3, -2), (3, 0), (1, 2), (-1, 3)]
 STAR = [(0, 10), (-6, -8), (10, 3), (-10, 3), (6, -8)]
 TWELVE = [(5, 0), (9, 1), (12, 3), (14, 6), (14, 9), (12, 12), (9, 14), (5, 14), (2, 12), (0, 9), (0, 5), (2, 2)]
 
@@ -49,7 +53,8 @@ def sample_plates(seed=80, most=12, count=30, size=60):
     chance = random.Random(seed)
     found = [Plate(TRIANGLE), Plate(TRIANGLE, (2, 1)), Plate(RIGHT), Plate([(0, 0), (6, 0), (0, 6)], (2, 2)), Plate(BOX),
              Plate(SQUARE), Plate([(0, 0), (4, 0), (4, 4), (0, 4)], (2, 2)), Plate([(0, 0), (4, 0), (4, 2), (0, 2)], (2, 1)),
-             Plate([(0, 0), (4, 0), (4, 4), (0, 4)], (1, 2)), Plate(EIGHT), Plate(EIGHT, (0, 0)), Plate(EIGHT, (1, 0))]
+             Plate([(0, 0), (4, 0), (4, 4), (0, 4)], (1, 2)), Plate(EIGHT), Plate(EIGHT, (0, 0)), Plate(EIGHT, (1, 0)),
+             Plate(*ONE_REST), Plate(SHORT_OF_ONE)]
     found = [plate for plate in found if len(plate.corners) <= most]
     while len(found) < count:
         corners = random_corners(chance, chance.randint(3, most), chance.choice([3, 10, size]))
