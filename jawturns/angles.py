@@ -46,8 +46,10 @@ def cross(d, e):
 
 def is_ahead(d, e):
     """Tell whether the angle of d is less than that of e."""
-    if _half(d) != _half(e):
-        return _half(d) < _half(e)
+    half = _half(d)
+    other = _half(e)
+    if half != other:
+        return half < other
     return cross(d, e) > 0
 
 
@@ -91,5 +93,6 @@ def ascending_of(row):
 
 def _half(d):
     """Return 0 for an angle of less than half a round, else 1."""
-    a, b = d
-    return 0 if b > 0 or (b == 0 and a > 0) else 1
+    if d[1] == 0:
+        return 0 if d[0] > 0 else 1
+    return 0 if d[1] > 0 else 1

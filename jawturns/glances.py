@@ -45,13 +45,13 @@ def apart(plates, plan):
     if not plan:
         return len(plates) == 1
     steps = steps_of(plan)
-    seen = set()
+    seen = {}
     for plate in plates:
         told = _all_shown(plate, steps)
         if any([row in seen for row in told]):
             return False
         for row in told:
-            seen.add(row)
+            seen[row] = True
     return True
 
 

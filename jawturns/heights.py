@@ -43,8 +43,9 @@ def _levels(corners, between_two):
 
 def _arrow(corners, centre, u):
     """Return the arrow from the lowest corner to the highest one, or to the centre."""
-    low = min(corners, key=lambda corner: lift(corner, u))
-    high = max(corners, key=lambda corner: lift(corner, u)) if centre is None else centre
+    lifts = [lift(corner, u) for corner in corners]
+    low = corners[lifts.index(min(lifts))]
+    high = corners[lifts.index(max(lifts))] if centre is None else centre
     return high[0] - low[0], high[1] - low[1]
 
 
