@@ -206,6 +206,15 @@ class Least(Case):
         self.assertEqual(never_sure(PART, STUCK_LET, slack), [("start", "push", ((0, 1),))])
         self.assertIs(sure(PART, slack, PLAN), True)
 
+    def test_a_room_of_1_is_not_told_by_none(self):
+        # The rests 2 and 3 stay apart, and a room of 1 takes them both in.
+        part, slack, let = Part(push=Turning(12, [(0, 2), (3, 3)])), Slack(0, 0), STUCK_LET
+        self.assertEqual([least_sure(part, let, slack), least_sure(part, let, slack, 1)], [None, 1])
+        self.fails(NoPlan, shortest_sure, part, let, slack)
+        self.fails(NoPlan, sure_paper, part, let, slack)
+        self.assertEqual([shortest_sure(part, let, slack, 1), sure_paper(part, let, slack, 1)], [Plan(12, [("push", 0)]), {}])
+        self.assertEqual([never_sure(part, let, slack), never_sure(part, let, slack, 1)], [[("start", "push", ((0, 1),))], None])
+
     def test_rooms_for_all(self):
         # A room of a period less 1 takes in every standing.
         for part, let, slack, _ in samples(46)[:20]:

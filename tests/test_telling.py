@@ -627,7 +627,7 @@ def near_lots(lot):
     return [None, True, 0, 1.5, "", "start", (), (state,), (state, (one, other), 0), ((one, other), state), (None, (one,)),
             ("a", (one, other)), ("", (one,)), (state, ()), (state, one), (state, None), (state, (other, one)),
             (state, (one, one)), (state, (one, other, (2, 3))), (state, ((-1, 2),)), (state, ((0, 3),)), (state, ((1, 2),)),
-            (state, ((0, 14),)), (state, ((0, -10),)), (state, ((False, 2),)), (state, ((0, 2.0),)), (state, ((0,),)),
+            (state, ((0, 12),)), (state, ((0, 13),)), (state, ((0, 14),)), (state, ((0, -10),)), (state, ((False, 2),)), (state, ((0, 2.0),)), (state, ((0,),)),
             (state, ((0, 2, 3),)), (state, ((0, None),)), (state, ((None, 2),)), (state, ((0, (2,)),)), (state, (0, 2)),
             (state, ((0, "2"),)), (state, ((0, HUGE),)), (state, "ab"), (state, (one, None)), DEEP[1]]
 
